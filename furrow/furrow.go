@@ -1,0 +1,114 @@
+// Package furrow: one log that many write, on units that are written once: see DOC.md.
+package furrow
+
+import (
+	"furrow/api"
+	"furrow/cells"
+	"furrow/layouts"
+)
+
+// Cells are what a unit keeps.
+type Cells struct{ kept cells.Cells }
+
+// Voter is what a voter keeps.
+type Voter struct{}
+
+// Node is a unit or a voter.
+type Node struct{}
+
+// Client is a client.
+type Client struct{}
+
+// Locate tells where an address lies (P3).
+func Locate(c api.Config, address int) (int, int, api.Errno) { return layouts.Locate(c, address) }
+
+// Next gives the layout behind another one (P3).
+func Next(layout [][]int, out int, sealed []int) ([][]int, api.Errno) {
+	return layouts.Next(layout, out, sealed)
+}
+
+// OpenCells opens cells (P4).
+func OpenCells(c api.Config, unit int, image []byte) (*Cells, api.Errno) {
+	kept, e := cells.Open(c, unit, image)
+	if e != api.OK {
+		return nil, e
+	}
+	return &Cells{*kept}, api.OK
+}
+
+// Seal seals them (P5).
+func (k *Cells) Seal(epoch int) api.Reply { return k.kept.Seal(epoch) }
+
+// Write writes a cell (P5).
+func (k *Cells) Write(epoch int, address int, c api.Content) api.Reply {
+	return k.kept.Write(epoch, address, c)
+}
+
+// Read reads a cell (P5).
+func (k *Cells) Read(epoch int, address int) api.Reply { return k.kept.Read(epoch, address) }
+
+// Trim lays a mark (P5).
+func (k *Cells) Trim(epoch int, mark int) api.Reply { return k.kept.Trim(epoch, mark) }
+
+// Image gives all as bytes (P6).
+func (k *Cells) Image() []byte { return k.kept.Image() }
+
+// OpenVoter opens a voter (P7).
+func OpenVoter(image []byte) (*Voter, api.Errno) { return nil, api.OK }
+
+// Prepare asks for a promise (P7).
+func (v *Voter) Prepare(epoch int, ballot int) api.Vote { return api.Vote{} }
+
+// Accept asks for a vote (P7).
+func (v *Voter) Accept(epoch int, ballot int, value []byte) api.Vote { return api.Vote{} }
+
+// Image gives all as bytes (P7).
+func (v *Voter) Image() []byte { return nil }
+
+// OpenNode opens a unit or voter (P8).
+func OpenNode(c api.Config, id int, image []byte) (*Node, api.Errno) { return nil, api.OK }
+
+// Receive takes a packet (P8).
+func (n *Node) Receive(from int, data []byte) {}
+
+// Out gives packets (P8).
+func (n *Node) Out() []api.Packet { return nil }
+
+// Image gives all as bytes (P8).
+func (n *Node) Image() []byte { return nil }
+
+// NewClient makes a client (P9).
+func NewClient(c api.Config, id int) (*Client, api.Errno) { return nil, api.OK }
+
+// Append appends a value (P9).
+func (x *Client) Append(value []byte) (int, api.Errno) { return 0, api.OK }
+
+// Read reads an address (P9).
+func (x *Client) Read(address int) (int, api.Errno) { return 0, api.OK }
+
+// Fill fills an address (P9).
+func (x *Client) Fill(address int) (int, api.Errno) { return 0, api.OK }
+
+// Trim trims all below an address (P9).
+func (x *Client) Trim(address int) (int, api.Errno) { return 0, api.OK }
+
+// Change leaves out a unit (P9).
+func (x *Client) Change(unit int) (int, api.Errno) { return 0, api.OK }
+
+// Wants tells which calls want a token (P10).
+func (x *Client) Wants() []int { return nil }
+
+// Give gives a token (P10).
+func (x *Client) Give(call int, token int) api.Errno { return api.OK }
+
+// Result tells how a call ended (P9).
+func (x *Client) Result(call int) (api.Result, api.Errno) { return api.Result{}, api.OK }
+
+// Receive takes a packet (P11).
+func (x *Client) Receive(from int, data []byte) {}
+
+// Out gives packets (P11).
+func (x *Client) Out() []api.Packet { return nil }
+
+// Tick lets time go by (P11).
+func (x *Client) Tick() {}
