@@ -31,7 +31,7 @@ type Cells struct {
 	chain       int
 	epoch, mark int
 	contents    [api.MaxCells]api.Content
-	image       []byte
+	image       record.Image
 }
 
 // Open opens cells from an image, or from the beginning of one.
@@ -40,23 +40,15 @@ func Open(c api.Config, unit int, image []byte) (*Cells, api.Errno) {
 	if e != api.OK {
 		return nil, e
 	}
-	records, ok := record.Split(image, shapes())
-	if !ok {
-		return nil, api.ErrImage
-	}
 	k := &Cells{config: c, chain: chain}
-	for _, r := range records {
-		if !k.again(r) {
-			return nil, api.ErrImage
-		}
+	if !k.image.Open(image, shapes(), k.again) {
+		return nil, api.ErrImage
 	}
 	return k, api.OK
 }
 
-// again does the call that a record tells of. A record which that call doesn't
-// leave behind did not come from cells as these.
-func (k *Cells) again(r record.Record) bool {
-	before := len(k.image)
+// again does the call that a record tells of.
+func (k *Cells) again(r record.Record) {
 	n := r.Numbers
 	switch r.Kind {
 	case sealRecord:
@@ -66,7 +58,6 @@ func (k *Cells) again(r record.Record) bool {
 	case writeRecord:
 		k.Write(n[0], n[1], api.Content{Kind: n[2], Client: n[3], Call: n[4], Value: r.Value})
 	}
-	return bytes.Equal(k.image[before:], r.Append(nil))
 }
 
 // Seal lets in no call of an epoch below this one any more.
@@ -119,7 +110,7 @@ func (k *Cells) Trim(epoch int, mark int) api.Reply {
 
 // Image gives all that was kept, as bytes.
 func (k *Cells) Image() []byte {
-	return bytes.Clone(k.image)
+	return k.image.Bytes()
 }
 
 func (k *Cells) sealed() api.Reply {
@@ -143,21 +134,20 @@ func (k *Cells) look(address int) api.Reply {
 	return api.Reply{What: api.Taken, Content: copied(content)}
 }
 
-// A call leaves at most one record, so that an image that was cut anywhere is
-// never one of half a call: the three below are the only ones that change cells,
-// and a call takes one of them.
+// A call leaves at most one record: the three below are the only ones that
+// change cells, and a call takes one of them.
 
 func (k *Cells) reach(epoch int) {
 	if epoch == k.epoch {
 		return
 	}
 	k.epoch = epoch
-	k.keep(record.Record{Kind: sealRecord, Numbers: []int{epoch}})
+	k.image.Keep(record.Record{Kind: sealRecord, Numbers: []int{epoch}})
 }
 
 func (k *Cells) lay(epoch, mark int) {
 	k.epoch, k.mark = epoch, mark
-	k.keep(record.Record{Kind: trimRecord, Numbers: []int{epoch, mark}})
+	k.image.Keep(record.Record{Kind: trimRecord, Numbers: []int{epoch, mark}})
 }
 
 func (k *Cells) put(epoch, address int, c api.Content) {
@@ -165,11 +155,7 @@ func (k *Cells) put(epoch, address int, c api.Content) {
 	k.epoch = epoch
 	k.contents[cell] = copied(c)
 	numbers := []int{epoch, address, c.Kind, c.Client, c.Call}
-	k.keep(record.Record{Kind: writeRecord, Numbers: numbers, Value: c.Value})
-}
-
-func (k *Cells) keep(r record.Record) {
-	k.image = r.Append(k.image)
+	k.image.Keep(record.Record{Kind: writeRecord, Numbers: numbers, Value: c.Value})
 }
 
 func isContent(c api.Content) bool {

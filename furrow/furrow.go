@@ -5,13 +5,14 @@ import (
 	"furrow/api"
 	"furrow/cells"
 	"furrow/layouts"
+	"furrow/votes"
 )
 
 // Cells are what a unit keeps.
 type Cells struct{ kept cells.Cells }
 
 // Voter is what a voter keeps.
-type Voter struct{}
+type Voter struct{ kept votes.Voter }
 
 // Node is a unit or a voter.
 type Node struct{}
@@ -54,16 +55,24 @@ func (k *Cells) Trim(epoch int, mark int) api.Reply { return k.kept.Trim(epoch, 
 func (k *Cells) Image() []byte { return k.kept.Image() }
 
 // OpenVoter opens a voter (P7).
-func OpenVoter(image []byte) (*Voter, api.Errno) { return nil, api.OK }
+func OpenVoter(image []byte) (*Voter, api.Errno) {
+	kept, e := votes.Open(image)
+	if e != api.OK {
+		return nil, e
+	}
+	return &Voter{*kept}, api.OK
+}
 
 // Prepare asks for a promise (P7).
-func (v *Voter) Prepare(epoch int, ballot int) api.Vote { return api.Vote{} }
+func (v *Voter) Prepare(epoch int, ballot int) api.Vote { return v.kept.Prepare(epoch, ballot) }
 
 // Accept asks for a vote (P7).
-func (v *Voter) Accept(epoch int, ballot int, value []byte) api.Vote { return api.Vote{} }
+func (v *Voter) Accept(epoch int, ballot int, value []byte) api.Vote {
+	return v.kept.Accept(epoch, ballot, value)
+}
 
 // Image gives all as bytes (P7).
-func (v *Voter) Image() []byte { return nil }
+func (v *Voter) Image() []byte { return v.kept.Image() }
 
 // OpenNode opens a unit or voter (P8).
 func OpenNode(c api.Config, id int, image []byte) (*Node, api.Errno) { return nil, api.OK }
