@@ -4,7 +4,9 @@ package furrow
 import (
 	"furrow/api"
 	"furrow/cells"
+	"furrow/clients"
 	"furrow/layouts"
+	"furrow/nodes"
 	"furrow/votes"
 )
 
@@ -15,10 +17,10 @@ type Cells struct{ kept cells.Cells }
 type Voter struct{ kept votes.Voter }
 
 // Node is a unit or a voter.
-type Node struct{}
+type Node struct{ kept nodes.Node }
 
 // Client is a client.
-type Client struct{}
+type Client struct{ kept clients.Client }
 
 // Locate tells where an address lies (P3).
 func Locate(c api.Config, address int) (int, int, api.Errno) { return layouts.Locate(c, address) }
@@ -75,49 +77,61 @@ func (v *Voter) Accept(epoch int, ballot int, value []byte) api.Vote {
 func (v *Voter) Image() []byte { return v.kept.Image() }
 
 // OpenNode opens a unit or voter (P8).
-func OpenNode(c api.Config, id int, image []byte) (*Node, api.Errno) { return nil, api.OK }
+func OpenNode(c api.Config, id int, image []byte) (*Node, api.Errno) {
+	kept, e := nodes.Open(c, id, image)
+	if e != api.OK {
+		return nil, e
+	}
+	return &Node{*kept}, api.OK
+}
 
 // Receive takes a packet (P8).
-func (n *Node) Receive(from int, data []byte) {}
+func (n *Node) Receive(from int, data []byte) { n.kept.Receive(from, data) }
 
 // Out gives packets (P8).
-func (n *Node) Out() []api.Packet { return nil }
+func (n *Node) Out() []api.Packet { return n.kept.Out() }
 
 // Image gives all as bytes (P8).
-func (n *Node) Image() []byte { return nil }
+func (n *Node) Image() []byte { return n.kept.Image() }
 
 // NewClient makes a client (P9).
-func NewClient(c api.Config, id int) (*Client, api.Errno) { return nil, api.OK }
+func NewClient(c api.Config, id int) (*Client, api.Errno) {
+	kept, e := clients.New(c, id)
+	if e != api.OK {
+		return nil, e
+	}
+	return &Client{*kept}, api.OK
+}
 
 // Append appends a value (P9).
-func (x *Client) Append(value []byte) (int, api.Errno) { return 0, api.OK }
+func (x *Client) Append(value []byte) (int, api.Errno) { return x.kept.Append(value) }
 
 // Read reads an address (P9).
-func (x *Client) Read(address int) (int, api.Errno) { return 0, api.OK }
+func (x *Client) Read(address int) (int, api.Errno) { return x.kept.Read(address) }
 
 // Fill fills an address (P9).
-func (x *Client) Fill(address int) (int, api.Errno) { return 0, api.OK }
+func (x *Client) Fill(address int) (int, api.Errno) { return x.kept.Fill(address) }
 
 // Trim trims all below an address (P9).
-func (x *Client) Trim(address int) (int, api.Errno) { return 0, api.OK }
+func (x *Client) Trim(address int) (int, api.Errno) { return x.kept.Trim(address) }
 
 // Change leaves out a unit (P9).
-func (x *Client) Change(unit int) (int, api.Errno) { return 0, api.OK }
+func (x *Client) Change(unit int) (int, api.Errno) { return x.kept.Change(unit) }
 
 // Wants tells which calls want a token (P10).
-func (x *Client) Wants() []int { return nil }
+func (x *Client) Wants() []int { return x.kept.Wants() }
 
 // Give gives a token (P10).
-func (x *Client) Give(call int, token int) api.Errno { return api.OK }
+func (x *Client) Give(call int, token int) api.Errno { return x.kept.Give(call, token) }
 
 // Result tells how a call ended (P9).
-func (x *Client) Result(call int) (api.Result, api.Errno) { return api.Result{}, api.OK }
+func (x *Client) Result(call int) (api.Result, api.Errno) { return x.kept.Result(call) }
 
 // Receive takes a packet (P11).
-func (x *Client) Receive(from int, data []byte) {}
+func (x *Client) Receive(from int, data []byte) { x.kept.Receive(from, data) }
 
 // Out gives packets (P11).
-func (x *Client) Out() []api.Packet { return nil }
+func (x *Client) Out() []api.Packet { return x.kept.Out() }
 
 // Tick lets time go by (P11).
-func (x *Client) Tick() {}
+func (x *Client) Tick() { x.kept.Tick() }

@@ -42,6 +42,16 @@ func Chain(c api.Config, unit int) (int, api.Errno) {
 	return unit / c.Units, api.OK
 }
 
+// First gives the layout that has all units.
+func First(c api.Config) [][]int {
+	layout := make([][]int, c.Chains)
+	for unit := range c.Chains * c.Units {
+		chain := unit / c.Units
+		layout[chain] = append(layout[chain], unit)
+	}
+	return layout
+}
+
 // Next gives the layout without the unit out (all of it, if that is None).
 func Next(layout [][]int, out int, sealed []int) ([][]int, api.Errno) {
 	if out != None {

@@ -9,10 +9,12 @@ import (
 	"furrow/record"
 )
 
+// MaxValue is how many bytes a value that is voted for has at most.
+const MaxValue = 255
+
 const (
 	firstEpoch  = 1
 	firstBallot = 1
-	maxValue    = 255 // bytes of a value that is voted for
 )
 
 // The kinds of records in an image.
@@ -24,7 +26,7 @@ const (
 func shapes() []record.Shape {
 	return []record.Shape{
 		{Kind: prepareRecord, Numbers: 2},
-		{Kind: acceptRecord, Numbers: 2, Value: maxValue},
+		{Kind: acceptRecord, Numbers: 2, Value: MaxValue},
 	}
 }
 
@@ -105,7 +107,7 @@ func (v *Voter) vote(epoch, ballot int, value []byte) {
 }
 
 func mayBeVoted(value []byte) bool {
-	return len(value) >= 1 && len(value) <= maxValue
+	return len(value) >= 1 && len(value) <= MaxValue
 }
 
 func refused(state epochState) api.Vote {
