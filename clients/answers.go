@@ -7,26 +7,46 @@ import (
 
 // Receive takes a packet.
 func (x *Client) Receive(from int, data []byte) {
-	number, reply, ok := packets.ReadReply(data)
-	if !ok {
-		return
+	if number, reply, ok := packets.ReadReply(data); ok {
+		x.replied(from, number, reply)
 	}
-	if c, found := x.asker(number); found && c.question.take(from, reply) {
-		x.goOn(c, reply)
+	if number, vote, ok := packets.ReadVote(data); ok {
+		x.voted(from, number, vote)
 	}
 }
 
-// asker gives the call that has asked the question of this number.
-func (x *Client) asker(number int) (*call, bool) {
+// replied takes the answer of a unit. One that is sealed has not answered what
+// was asked: that is asked anew when the later layout is known.
+func (x *Client) replied(from, number int, reply api.Reply) {
+	q, goOn := x.asker(from, number)
+	switch {
+	case q == nil:
+		return
+	case reply.What == api.Sealed:
+		x.behind(reply.Epoch)
+	default:
+		q.answers[from] = reply
+		goOn(reply)
+	}
+}
+
+// asker gives the question that this is an answer to, and what comes behind it.
+func (x *Client) asker(from, number int) (*question[api.Reply], func(api.Reply)) {
+	if x.probe.awaits(number, from) {
+		return &x.probe, func(api.Reply) {}
+	}
+	if x.move.seals.awaits(number, from) {
+		return &x.move.seals, x.sealed
+	}
 	for _, c := range x.pending {
-		if c.question.request.Number == number {
-			return c, true
+		if c.question.awaits(number, from) {
+			return &c.question, func(reply api.Reply) { x.goOn(c, reply) }
 		}
 	}
-	return nil, false
+	return nil, nil
 }
 
-// goOn does what comes behind an answer.
+// goOn does what comes behind an answer to a call.
 func (x *Client) goOn(c *call, reply api.Reply) {
 	switch c.question.request.Kind {
 	case packets.Read:
@@ -34,20 +54,25 @@ func (x *Client) goOn(c *call, reply api.Reply) {
 	case packets.Write:
 		x.wrote(c, reply)
 	case packets.Trim:
-		if c.question.allDid() {
+		if c.question.count(isDone) == len(c.question.nodes) {
 			x.end(c, c.ending)
 		}
 	}
 }
 
+// looked: an address has the content that all units have. If one has none, it had
+// none when the read began.
 func (x *Client) looked(c *call, reply api.Reply) {
-	switch reply.What {
-	case api.Empty:
-		x.end(c, api.Result{What: api.Empty})
-	case api.Taken:
-		x.end(c, told(reply.Content))
-	case api.Trimmed:
+	q := &c.question
+	switch {
+	case reply.What == api.Trimmed:
 		x.lay(c, reply.Mark, api.Result{What: api.Trimmed})
+	case len(q.answers) < len(q.nodes):
+		return
+	case q.count(isTaken) == len(q.nodes):
+		x.end(c, told(q.answers[q.nodes[0]].Content))
+	default:
+		x.end(c, api.Result{What: api.Empty})
 	}
 }
 
@@ -65,8 +90,8 @@ func (x *Client) wrote(c *call, reply api.Reply) {
 // taken: an append goes elsewhere, if the content isn't its own; a fill sees to
 // it that all units have what is there.
 func (x *Client) taken(c *call, content api.Content) {
-	if c.kind == appending && !x.owns(c, content) {
-		c.question = question{}
+	if c.kind == appending && !c.owns(content) {
+		c.question = question[api.Reply]{}
 		return
 	}
 	c.content = content
@@ -88,10 +113,10 @@ func (x *Client) goAlong(c *call) {
 // trimmed: if a unit has the call's own content, others may have been told of
 // it before it was trimmed. Then the call was done, and must not be done anew.
 func (x *Client) trimmed(c *call, reply api.Reply) {
-	own := x.owns(c, reply.Content) || c.place > 0 && x.owns(c, c.content)
+	own := c.owns(reply.Content) || c.place > 0 && c.owns(c.content)
 	switch {
 	case c.kind == appending && !own:
-		c.question = question{}
+		c.question = question[api.Reply]{}
 	case c.kind == appending:
 		x.lay(c, reply.Mark, api.Result{What: api.Done, Address: c.address})
 	case own:
@@ -104,4 +129,12 @@ func (x *Client) trimmed(c *call, reply api.Reply) {
 // told is what a read or a fill tells of a content.
 func told(content api.Content) api.Result {
 	return api.Result{What: content.Kind, Value: content.Value}
+}
+
+func isDone(r api.Reply) bool {
+	return r.What == api.Done
+}
+
+func isTaken(r api.Reply) bool {
+	return r.What == api.Taken
 }

@@ -1,6 +1,8 @@
 package clients
 
 import (
+	"slices"
+
 	"furrow/api"
 	"furrow/layouts"
 	"furrow/packets"
@@ -15,26 +17,26 @@ const (
 	changing
 )
 
-// epoch is the one of the first layout.
-const epoch = 0
-
-// call is a call that is pending. It asks one question at a time.
+// call is a call that is pending. It asks one question at a time; a change asks
+// none, it is done by the client's move.
 type call struct {
 	kind, number int
 	address      int
+	unit         int         // of a change
+	own          api.Content // what the call itself would write
 	content      api.Content // what is written along the chain
 	place        int         // how many units of the chain have it
 	ending       api.Result  // how the call ends when the mark is laid
-	question     question
+	question     question[api.Reply]
 }
 
 func (c *call) wants() bool {
-	return c.kind == appending && len(c.question.units) == 0
+	return c.kind == appending && !c.question.asks()
 }
 
 // owns tells whether the content is the call's own one.
-func (x *Client) owns(c *call, content api.Content) bool {
-	return content.Client == x.id && content.Call == c.number
+func (c *call) owns(content api.Content) bool {
+	return content.Client == c.own.Client && content.Call == c.own.Call
 }
 
 func (x *Client) begin(kind int) (*call, api.Errno) {
@@ -42,7 +44,7 @@ func (x *Client) begin(kind int) (*call, api.Errno) {
 		return nil, api.ErrCall
 	}
 	n := len(x.results)
-	c := &call{kind: kind, number: n, content: api.Content{Client: x.id, Call: n}}
+	c := &call{kind: kind, number: n, own: api.Content{Client: x.id, Call: n}}
 	x.results = append(x.results, api.Result{})
 	x.pending[n] = c
 	return c, api.OK
@@ -53,10 +55,35 @@ func (x *Client) end(c *call, r api.Result) {
 	delete(x.pending, c.number)
 }
 
+// do does a call from its beginning, with the layout that is known. What it has
+// found out with an earlier layout says nothing about this one: units that have
+// told it may have been left out.
+func (x *Client) do(c *call) {
+	switch c.kind {
+	case appending, filling:
+		c.content, c.place = c.own, 0
+		x.writeNext(c)
+	case reading:
+		x.look(c)
+	case trimming:
+		x.lay(c, c.address, api.Result{What: api.Done})
+	}
+}
+
+// settle ends a change, if the layout that is known tells how.
+func (x *Client) settle(c *call) {
+	chain, _ := layouts.Chain(x.config, c.unit)
+	switch units := x.layout[chain]; {
+	case !slices.Contains(units, c.unit):
+		x.end(c, api.Result{What: api.Done})
+	case len(units) == 1:
+		x.end(c, api.Result{What: api.Refused})
+	}
+}
+
 func (x *Client) ask(c *call, units []int, q packets.Request) {
-	x.asked++
-	q.Number, q.Epoch = x.asked, epoch
-	c.question = question{request: q, units: units, due: true, answers: make(map[int]api.Reply)}
+	q.Number, q.Epoch = x.number(), x.epoch
+	c.question = newQuestion[api.Reply](units, q)
 }
 
 // chain gives the units on which the call's address lies.
@@ -65,20 +92,14 @@ func (x *Client) chain(c *call) []int {
 	return x.layout[chain]
 }
 
-// look asks the last unit of the chain: what that has, all have.
+// look asks all units of the chain. The last one could tell what they all have;
+// but it may have been left out without knowing: of the others one knows.
 func (x *Client) look(c *call) {
-	chain := x.chain(c)
-	last := chain[len(chain)-1]
-	x.ask(c, []int{last}, packets.Request{Kind: packets.Read, Place: c.address})
+	x.ask(c, x.chain(c), packets.Request{Kind: packets.Read, Place: c.address})
 }
 
-// write begins to write along the chain. The first unit decides what the
-// address has; the others get that, one behind the other.
-func (x *Client) write(c *call) {
-	c.place = 0
-	x.writeNext(c)
-}
-
+// writeNext writes along the chain. The first unit decides what the address has;
+// the others get that, one behind the other: what one has, all before it have.
 func (x *Client) writeNext(c *call) {
 	unit := x.chain(c)[c.place]
 	x.ask(c, []int{unit}, packets.Request{Kind: packets.Write, Place: c.address, Content: c.content})
@@ -89,9 +110,5 @@ func (x *Client) writeNext(c *call) {
 // an address is trimmed while the trim has not been done elsewhere.
 func (x *Client) lay(c *call, mark int, ending api.Result) {
 	c.ending = ending
-	var all []int
-	for _, chain := range x.layout {
-		all = append(all, chain...)
-	}
-	x.ask(c, all, packets.Request{Kind: packets.Trim, Place: mark})
+	x.ask(c, layouts.All(x.layout), packets.Request{Kind: packets.Trim, Place: mark})
 }

@@ -1,4 +1,4 @@
-// Package clients does the calls of clients, by packets to units.
+// Package clients does the calls of clients, by packets to units and voters.
 package clients
 
 import (
@@ -14,10 +14,16 @@ import (
 type Client struct {
 	config  api.Config
 	id      int
-	layout  [][]int
+	epoch   int
+	layout  [][]int // the one of the epoch
 	results []api.Result
 	pending map[int]*call
-	asked   int // how many questions there were: so each one has a number of its own
+	asked   int                 // how many questions there were: so each one has a number of its own
+	probe   question[api.Reply] // whether units are at a later epoch
+	told    int                 // the latest epoch of which units have told since the last Tick
+	ballot  int                 // the last one that was taken
+	move    move
+	waiting waiting
 }
 
 // New makes a client.
@@ -37,7 +43,7 @@ func (x *Client) Append(value []byte) (int, api.Errno) {
 	if e != api.OK {
 		return 0, e
 	}
-	c.content.Kind, c.content.Value = api.Data, bytes.Clone(value)
+	c.own.Kind, c.own.Value = api.Data, bytes.Clone(value)
 	return c.number, api.OK
 }
 
@@ -51,7 +57,7 @@ func (x *Client) Read(address int) (int, api.Errno) {
 		return 0, e
 	}
 	c.address = address
-	x.look(c)
+	x.do(c)
 	return c.number, api.OK
 }
 
@@ -64,9 +70,9 @@ func (x *Client) Fill(address int) (int, api.Errno) {
 	if e != api.OK {
 		return 0, e
 	}
-	c.content.Kind = api.Junk
+	c.own.Kind = api.Junk
 	c.address = address
-	x.write(c)
+	x.do(c)
 	return c.number, api.OK
 }
 
@@ -79,11 +85,12 @@ func (x *Client) Trim(address int) (int, api.Errno) {
 	if e != api.OK {
 		return 0, e
 	}
-	x.lay(c, address, api.Result{What: api.Done})
+	c.address = address
+	x.do(c)
 	return c.number, api.OK
 }
 
-// Change is refused: there is no layout but the first one yet.
+// Change begins to leave out a unit.
 func (x *Client) Change(unit int) (int, api.Errno) {
 	if _, e := layouts.Chain(x.config, unit); e != api.OK {
 		return 0, api.ErrUnit
@@ -92,7 +99,11 @@ func (x *Client) Change(unit int) (int, api.Errno) {
 	if e != api.OK {
 		return 0, e
 	}
-	x.end(c, api.Result{What: api.Refused})
+	c.unit = unit
+	x.settle(c)
+	if x.hasChanges() && !x.move.underWay() {
+		x.startMove()
+	}
 	return c.number, api.OK
 }
 
@@ -119,7 +130,7 @@ func (x *Client) Give(n int, token int) api.Errno {
 		return api.OK
 	}
 	c.address = token
-	x.write(c)
+	x.do(c)
 	return api.OK
 }
 
@@ -135,17 +146,42 @@ func (x *Client) Result(n int) (api.Result, api.Errno) {
 
 // Tick has everything asked again that was not answered.
 func (x *Client) Tick() {
+	x.waiting.tick(x.move)
+	x.told, x.move = 0, move{}
 	for _, c := range x.pending {
 		c.question.due = true
 	}
+	if len(x.pending) > len(x.Wants()) {
+		x.startProbe()
+	}
+	if x.hasChanges() {
+		x.startMove()
+	}
 }
 
-// Out gives the packets that are to go out. They can't be more than MaxOut: a
-// call has one question, and asks it of each unit at most once.
+// Out gives the packets that are to go out. They can't be more than MaxOut: each
+// call has one question, as have the probe and the move, and asks it of each node
+// at most once.
 func (x *Client) Out() []api.Packet {
 	var given []api.Packet
-	for _, n := range slices.Sorted(maps.Keys(x.pending)) {
-		given = append(given, x.pending[n].question.out()...)
+	for _, c := range x.calls() {
+		given = append(given, c.question.out()...)
 	}
-	return given
+	given = append(given, x.probe.out()...)
+	given = append(given, x.move.seals.out()...)
+	return append(given, x.move.votes.out()...)
+}
+
+// calls gives the pending calls, rising.
+func (x *Client) calls() []*call {
+	var all []*call
+	for _, n := range slices.Sorted(maps.Keys(x.pending)) {
+		all = append(all, x.pending[n])
+	}
+	return all
+}
+
+func (x *Client) number() int {
+	x.asked++
+	return x.asked
 }

@@ -7,50 +7,53 @@ import (
 	"furrow/packets"
 )
 
-// question is what is asked of some units, and who has answered it. One that
-// is asked of none is no question.
-type question struct {
+// question is what is asked of some nodes, and who has answered it, and what.
+// One that is asked of none is no question.
+type question[A any] struct {
 	request packets.Request
-	units   []int
+	nodes   []int
 	due     bool // it is to go out to those that have not answered
-	answers map[int]api.Reply
+	answers map[int]A
 }
 
-// take keeps an answer. It is false, if this unit was not asked.
-func (q *question) take(from int, reply api.Reply) bool {
-	if !slices.Contains(q.units, from) {
-		return false
-	}
-	q.answers[from] = reply
-	return true
+func newQuestion[A any](nodes []int, q packets.Request) question[A] {
+	return question[A]{request: q, nodes: nodes, due: true, answers: make(map[int]A)}
 }
 
-func (q *question) answered(unit int) bool {
-	_, found := q.answers[unit]
-	return found
+// asks tells whether something is asked at all.
+func (q *question[A]) asks() bool {
+	return len(q.nodes) > 0
 }
 
-// allDid tells whether every unit has done what was asked.
-func (q *question) allDid() bool {
-	did := 0
-	for _, reply := range q.answers {
-		if reply.What == api.Done {
-			did++
+// awaits tells whether an answer of this number, from this node, is wanted. Of
+// several answers the first one counts: a promise that was given stays given,
+// though it is not given again to a packet that was doubled.
+func (q *question[A]) awaits(number, from int) bool {
+	_, answered := q.answers[from]
+	return q.request.Number == number && slices.Contains(q.nodes, from) && !answered
+}
+
+// count tells how many answers are such ones.
+func (q *question[A]) count(such func(A) bool) int {
+	n := 0
+	for _, answer := range q.answers {
+		if such(answer) {
+			n++
 		}
 	}
-	return did == len(q.units)
+	return n
 }
 
 // out gives the packets that are due.
-func (q *question) out() []api.Packet {
+func (q *question[A]) out() []api.Packet {
 	if !q.due {
 		return nil
 	}
 	q.due = false
 	var given []api.Packet
-	for _, unit := range q.units {
-		if !q.answered(unit) {
-			given = append(given, api.Packet{To: unit, Data: q.request.Bytes()})
+	for _, node := range q.nodes {
+		if _, answered := q.answers[node]; !answered {
+			given = append(given, api.Packet{To: node, Data: q.request.Bytes()})
 		}
 	}
 	return given

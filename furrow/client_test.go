@@ -299,6 +299,15 @@ func TestP10TokensThatAreNoAddress(t *testing.T) {
 	}
 }
 
+// has tells whether all these packets are among the others.
+func has(all, some []api.Packet) bool {
+	return !slices.ContainsFunc(some, func(p api.Packet) bool {
+		return !slices.ContainsFunc(all, func(q api.Packet) bool { return p.To == q.To && bytes.Equal(p.Data, q.Data) })
+	})
+}
+
+// At a Tick there may be asked more than was asked before, but of each node at
+// most once more.
 func TestP11AskedAgainAtATickOnly(t *testing.T) {
 	w := newWorld(t, config(2, 2, 1, 3), 1, 0)
 	x := w.clients[1000]
@@ -307,7 +316,7 @@ func TestP11AskedAgainAtATickOnly(t *testing.T) {
 	w.call(1000, aFill, 5, "")
 	w.call(1000, anAppend, 0, "a")
 	first := x.Out()
-	if len(first) != 6 {
+	if len(first) != 7 {
 		t.Errorf("%d packets come out first", len(first))
 	}
 	for range 3 {
@@ -316,7 +325,7 @@ func TestP11AskedAgainAtATickOnly(t *testing.T) {
 		}
 		x.Tick()
 		x.Tick()
-		if out := x.Out(); !samePackets(out, first) {
+		if out := x.Out(); !has(out, first) || len(out) > 7+4 {
 			t.Errorf("behind a Tick %v comes out, want %v", out, first)
 		}
 	}
@@ -325,7 +334,7 @@ func TestP11AskedAgainAtATickOnly(t *testing.T) {
 	}
 	w.quiet(to(1000))
 	x.Tick()
-	if out := x.Out(); !samePackets(out, first[3:]) {
+	if out := x.Out(); !has(out, first[3:]) || has(out, first[:1]) || has(out, first[1:2]) || has(out, first[2:3]) {
 		t.Errorf("of those that were not answered %v comes out, want %v", out, first[3:])
 	}
 	x.Tick()
@@ -336,6 +345,26 @@ func TestP11AskedAgainAtATickOnly(t *testing.T) {
 	x.Tick()
 	if out := x.Out(); len(out) != 0 {
 		t.Errorf("of what was answered %v comes out", out)
+	}
+}
+
+func TestP11AChangeIsAskedForAgain(t *testing.T) {
+	for lost := range 40 {
+		w := newWorld(t, config(1, 2, 3, 2), 1, 0)
+		m := w.call(1000, aChange, 1, "")
+		count := 0
+		w.quiet(func(letter) bool {
+			count++
+			return count < lost
+		})
+		for range 3 {
+			if out := w.clients[1000].Out(); len(out) != 0 {
+				t.Errorf("without a Tick %v comes out", out)
+			}
+		}
+		w.round()
+		w.round()
+		w.expectChange(m, "done")
 	}
 }
 
@@ -371,20 +400,21 @@ func TestP11WhatIsNoPacketDoesNothing(t *testing.T) {
 	}
 	w.call(1000, anAppend, 0, "a")
 	w.give(1000, 3, 4)
+	w.call(1000, aChange, 2, "")
 	w.quiet(func(l letter) bool {
 		if l.p.To == 1000 {
 			for _, data := range no(l.p.Data) {
 				w.hand(letter{l.from, api.Packet{To: 1000, Data: data}})
 			}
 			for _, from := range append(slices.Clone(extremes), 1001, 1099, 101) {
-				if from < 0 || from > 3 {
+				if from < 0 || from > 3 && from != api.FirstVoter {
 					w.hand(letter{from, l.p})
 				}
 			}
 		}
 		return l.p.To != 1000
 	})
-	if w.pending() != 4 {
+	if w.pending() != 5 {
 		t.Errorf("%d calls are pending:\n%s", w.pending(), w.story())
 	}
 	w.round()

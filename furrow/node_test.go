@@ -38,6 +38,10 @@ func traffic(t *testing.T, seed int64) (*world, []letter) {
 		for _, id := range w.those() {
 			w.begin(id)
 			w.tokens(id)
+			if w.r.Intn(6) == 0 {
+				w.call(id, aChange, w.r.Intn(w.units()), "")
+			}
+			w.clients[id].Tick()
 		}
 		w.quiet(func(l letter) bool {
 			if l.p.To < api.FirstClient {

@@ -15,6 +15,7 @@ const (
 	aRead
 	aFill
 	aTrim
+	aChange // of a unit, that stands where others have the address
 )
 
 // never is when a call ends that is pending for good.
@@ -191,6 +192,8 @@ func asOneLog(calls []entry, addresses int) bool {
 	var s search
 	for _, e := range calls {
 		switch {
+		case e.kind == aChange:
+			continue
 		case e.kind == anAppend && e.result.What == api.Full:
 			continue
 		case e.kind == anAppend && e.result.What == api.Done:

@@ -36,6 +36,7 @@ type world struct {
 	calls   []*made
 	now     int
 	had     map[int]bool // the tokens that some append had
+	mixed   bool         // in a step, letters are handed in in any order
 }
 
 func newWorld(t *testing.T, c api.Config, clients int, seed int64) *world {
@@ -83,6 +84,10 @@ func (w *world) addresses() int {
 	return w.c.Chains * w.c.Cells
 }
 
+func (w *world) units() int {
+	return w.c.Chains * w.c.Units
+}
+
 // call begins a call; nil, if the client has too many.
 func (w *world) call(id, kind, address int, value string) *made {
 	w.t.Helper()
@@ -98,6 +103,8 @@ func (w *world) call(id, kind, address int, value string) *made {
 		n, e = x.Fill(address)
 	case aTrim:
 		n, e = x.Trim(address)
+	case aChange:
+		n, e = x.Change(address)
 	}
 	if e == api.ErrCall {
 		return nil
@@ -207,6 +214,9 @@ func (w *world) step(passes func(letter) bool) int {
 	}
 	letters := w.letters
 	w.letters = nil
+	if w.mixed {
+		w.r.Shuffle(len(letters), func(i, j int) { letters[i], letters[j] = letters[j], letters[i] })
+	}
 	for _, l := range letters {
 		if passes == nil || passes(l) {
 			w.hand(l)
@@ -303,7 +313,7 @@ func (w *world) isOneLog() bool {
 }
 
 func (w *world) story() string {
-	names := []string{"append", "read", "fill", "trim"}
+	names := []string{"append", "read", "fill", "trim", "change"}
 	var b bytes.Buffer
 	for _, m := range w.calls {
 		end := strconv.Itoa(m.end)

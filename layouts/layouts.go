@@ -97,6 +97,41 @@ func without(layout [][]int, out int) [][]int {
 	return next
 }
 
+// All gives the units of a layout, chain by chain.
+func All(layout [][]int) []int {
+	return slices.Concat(layout...)
+}
+
+// Bytes gives a layout as bytes: its units, chain by chain.
+func Bytes(layout [][]int) []byte {
+	var data []byte
+	for _, unit := range All(layout) {
+		data = append(data, byte(unit))
+	}
+	return data
+}
+
+// Within reads the bytes of a layout that has come behind this one. It is false,
+// if they are none: only units are left out, and never a chain's last.
+func Within(layout [][]int, data []byte) ([][]int, bool) {
+	later := make([][]int, len(layout))
+	for i, chain := range layout {
+		for _, unit := range chain {
+			if len(data) > 0 && int(data[0]) == unit {
+				later[i] = append(later[i], unit)
+				data = data[1:]
+			}
+		}
+		if len(later[i]) == 0 {
+			return nil, false
+		}
+	}
+	if len(data) > 0 {
+		return nil, false
+	}
+	return later, true
+}
+
 // eachHasOne tells whether of each chain some unit is one of sealed.
 func eachHasOne(layout [][]int, sealed []int) bool {
 	set := make(map[int]struct{}, len(sealed))

@@ -28,7 +28,7 @@ func open(t *testing.T, id int, image []byte) *nodes.Node {
 
 // requests are for units and for voters, with numbers that meet each other.
 func requests(r *rand.Rand, count int) []packets.Request {
-	kinds := []int{packets.Seal, packets.Write, packets.Read, packets.Trim, packets.Prepare, packets.Accept}
+	kinds := []int{packets.Seal, packets.Write, packets.Read, packets.Trim, packets.Prepare, packets.Accept, packets.Recall}
 	var all []packets.Request
 	for i := range count {
 		q := packets.Request{Kind: kinds[r.Intn(len(kinds))], Number: i * 3, Epoch: r.Intn(3) + i/30, Place: r.Intn(9) - 1}
@@ -70,6 +70,8 @@ func asVoter(v *votes.Voter, q packets.Request) (api.Vote, bool) {
 		return v.Prepare(q.Epoch, q.Place), true
 	case packets.Accept:
 		return v.Accept(q.Epoch, q.Place, q.Content.Value), true
+	case packets.Recall:
+		return v.Recall(q.Epoch), true
 	}
 	return api.Vote{}, false
 }

@@ -57,6 +57,7 @@ func (v voter) answer(q packets.Request) ([]byte, bool) {
 	table := map[int]func(voter, packets.Request) api.Vote{
 		packets.Prepare: voter.prepare,
 		packets.Accept:  voter.accept,
+		packets.Recall:  voter.recall,
 	}
 	do, found := table[q.Kind]
 	if !found {
@@ -71,4 +72,8 @@ func (v voter) prepare(q packets.Request) api.Vote {
 
 func (v voter) accept(q packets.Request) api.Vote {
 	return v.Accept(q.Epoch, q.Place, q.Content.Value)
+}
+
+func (v voter) recall(q packets.Request) api.Vote {
+	return v.Recall(q.Epoch)
 }

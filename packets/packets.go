@@ -16,6 +16,7 @@ const (
 	Trim
 	Prepare
 	Accept
+	Recall
 )
 
 // The kinds of packets that come back.
@@ -103,6 +104,7 @@ func requestShapes() []record.Shape {
 		{Kind: Trim, Numbers: requestNumbers},
 		{Kind: Prepare, Numbers: requestNumbers},
 		{Kind: Accept, Numbers: requestNumbers, Value: votes.MaxValue},
+		{Kind: Recall, Numbers: requestNumbers},
 	}
 }
 

@@ -10,7 +10,7 @@ import (
 	"furrow/packets"
 )
 
-var kinds = []int{packets.Seal, packets.Write, packets.Read, packets.Trim, packets.Prepare, packets.Accept}
+var kinds = []int{packets.Seal, packets.Write, packets.Read, packets.Trim, packets.Prepare, packets.Accept, packets.Recall}
 
 func request(kind int, value string) packets.Request {
 	content := api.Content{Kind: api.Data, Client: math.MinInt, Call: math.MaxInt, Value: []byte(value)}
@@ -68,7 +68,7 @@ func TestWhatIsNoPacketIsNotTaken(t *testing.T) {
 	}
 	tooLong := append(request(packets.Write, "").Bytes(), "123456789"...)
 	tooLong[2] = 9
-	for _, data := range [][]byte{tooLong, request(0, "").Bytes(), request(7, "").Bytes(), request(packets.Read, "a").Bytes()} {
+	for _, data := range [][]byte{tooLong, request(0, "").Bytes(), request(8, "").Bytes(), request(packets.Read, "a").Bytes(), request(packets.Recall, "a").Bytes()} {
 		if taken(data) != [3]bool{} {
 			t.Errorf("%v is taken", data)
 		}

@@ -86,6 +86,12 @@ func (v *Voter) Accept(epoch int, ballot int, value []byte) api.Vote {
 	return api.Vote{What: api.Done, Promise: ballot}
 }
 
+// Recall tells of an epoch the promise and the vote, and changes nothing.
+func (v *Voter) Recall(epoch int) api.Vote {
+	state := v.epochs[epoch]
+	return api.Vote{What: api.Done, Promise: state.promise, Ballot: state.ballot, Value: bytes.Clone(state.value)}
+}
+
 // Image gives all that was kept, as bytes.
 func (v *Voter) Image() []byte {
 	return v.image.Bytes()

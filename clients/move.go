@@ -1,0 +1,228 @@
+package clients
+
+import (
+	"maps"
+	"slices"
+
+	"furrow/api"
+	"furrow/layouts"
+	"furrow/packets"
+)
+
+// move is the way to a later layout. It asks one question at a time: it has
+// voters tell what they have voted for; if nothing has been chosen yet, it has
+// units sealed, and voters promise, and vote.
+type move struct {
+	epoch  int  // the one whose layout is looked for
+	chosen bool // there is one: a unit is at an epoch that comes behind it
+	ballot int
+	value  []byte // the layout to vote for
+	seals  question[api.Reply]
+	votes  question[api.Vote]
+}
+
+func (m *move) underWay() bool {
+	return m.seals.asks() || m.votes.asks()
+}
+
+// waiting is why the next move may go further than the last one.
+type waiting struct {
+	begun    bool // a new layout was begun, and not chosen yet
+	longer   bool // that was so ahead of the last Tick already
+	unsealed bool // a change could not go on for want of units
+}
+
+func (w *waiting) tick(m move) {
+	w.longer = w.begun
+	w.unsealed = w.unsealed || m.seals.asks()
+}
+
+// behind: a unit is at a later epoch. Of that one there need not be a layout,
+// but of the one ahead of it there is.
+func (x *Client) behind(epoch int) {
+	if epoch <= x.epoch || epoch <= x.told {
+		return
+	}
+	x.told = epoch
+	if !x.move.underWay() || epoch > x.move.epoch {
+		x.startMove()
+	}
+}
+
+// startProbe asks all units whether they are at a later epoch. Those that a call
+// waits for may have been left out, and be gone.
+func (x *Client) startProbe() {
+	q := packets.Request{Kind: packets.Seal, Number: x.number(), Epoch: x.epoch}
+	x.probe = newQuestion[api.Reply](layouts.All(x.layout), q)
+}
+
+// startMove asks what was voted for. Most of the time others are done with it:
+// then this is enough, and hinders nobody.
+func (x *Client) startMove() {
+	epoch := max(x.epoch+1, x.told-1)
+	x.move = move{epoch: epoch, chosen: epoch < x.told}
+	x.askVoters(packets.Request{Kind: packets.Recall})
+}
+
+func (x *Client) askVoters(q packets.Request) {
+	q.Number, q.Epoch = x.number(), x.move.epoch
+	var voters []int
+	for i := range x.config.Voters {
+		voters = append(voters, api.FirstVoter+i)
+	}
+	x.move.seals = question[api.Reply]{}
+	x.move.votes = newQuestion[api.Vote](voters, q)
+}
+
+// voted takes the answer of a voter.
+func (x *Client) voted(from, number int, vote api.Vote) {
+	q := &x.move.votes
+	if !q.awaits(number, from) {
+		return
+	}
+	q.answers[from] = vote
+	switch q.request.Kind {
+	case packets.Recall:
+		x.recalled()
+	case packets.Prepare:
+		x.prepared()
+	case packets.Accept:
+		x.accepted()
+	}
+}
+
+func (x *Client) majority() int {
+	return x.config.Voters/2 + 1
+}
+
+func (x *Client) recalled() {
+	answers := x.move.votes.answers
+	if vote, ok := agreed(answers, x.majority()); ok {
+		x.adopt(vote.Value)
+		return
+	}
+	if len(answers) < x.majority() {
+		return
+	}
+	if x.move.chosen {
+		x.adopt(highest(answers).Value)
+		return
+	}
+	x.undecided()
+}
+
+// undecided: whoever has a change takes part at once. Others do so only when a
+// Tick has gone by: whoever has begun should be able to end it, or else a change
+// might be kept from being chosen by those that it keeps waiting.
+func (x *Client) undecided() {
+	x.waiting.begun = true
+	x.move.ballot = x.nextBallot(promised(x.move.votes.answers))
+	x.move.votes = question[api.Vote]{}
+	if x.hasChanges() || x.waiting.longer {
+		x.seal()
+	}
+}
+
+// nextBallot gives one that is above those that were promised, and that no other
+// client takes.
+func (x *Client) nextBallot(promised int) int {
+	const apart = api.LastClient - api.FirstClient + 1
+	x.ballot = (max(promised, x.ballot)/apart+1)*apart + x.id - api.FirstClient
+	return x.ballot
+}
+
+func (x *Client) seal() {
+	q := packets.Request{Kind: packets.Seal, Number: x.number(), Epoch: x.move.epoch}
+	x.move.seals = newQuestion[api.Reply](layouts.All(x.layout), q)
+}
+
+// sealed: a unit more is sealed. As soon as there is one in each chain, nobody can
+// end a read or a trim with the old layout any more who begins it from now on, nor
+// write what the units of the new one don't have.
+func (x *Client) sealed(api.Reply) {
+	if next, ok := x.next(slices.Collect(maps.Keys(x.move.seals.answers))); ok {
+		x.move.value = layouts.Bytes(next)
+		x.askVoters(packets.Request{Kind: packets.Prepare, Place: x.move.ballot})
+	}
+}
+
+// next gives the layout to vote for, if the units that are sealed are enough. The
+// first change comes first; the others only if that one lacks units, which may be
+// the ones that the others leave out.
+func (x *Client) next(sealed []int) ([][]int, bool) {
+	outs := x.changes()
+	if len(outs) == 0 {
+		outs = []int{layouts.None}
+	}
+	if !x.waiting.unsealed {
+		outs = outs[:1]
+	}
+	for _, out := range outs {
+		if next, e := layouts.Next(x.layout, out, sealed); e == api.OK {
+			return next, true
+		}
+	}
+	return nil, false
+}
+
+// prepared: if something was voted for, it may have been chosen, and nothing else
+// may be voted for any more.
+func (x *Client) prepared() {
+	answers := x.move.votes.answers
+	if len(done(answers)) < x.majority() {
+		return
+	}
+	if vote := highest(done(answers)); vote.Ballot > 0 {
+		x.move.value = vote.Value
+	}
+	content := api.Content{Value: x.move.value}
+	x.askVoters(packets.Request{Kind: packets.Accept, Place: x.move.ballot, Content: content})
+}
+
+func (x *Client) accepted() {
+	if len(done(x.move.votes.answers)) >= x.majority() {
+		x.adopt(x.move.value)
+	}
+}
+
+// adopt goes over to a layout that has been chosen.
+func (x *Client) adopt(value []byte) {
+	layout, ok := layouts.Within(x.layout, value)
+	epoch := x.move.epoch
+	x.move = move{}
+	if !ok {
+		return
+	}
+	x.epoch, x.layout, x.waiting = epoch, layout, waiting{}
+	for _, c := range x.calls() {
+		x.over(c)
+	}
+	if x.hasChanges() || x.told > x.epoch {
+		x.startMove()
+	}
+}
+
+// over takes a call over to a new layout.
+func (x *Client) over(c *call) {
+	switch {
+	case c.kind == changing:
+		x.settle(c)
+	case !c.wants():
+		x.do(c)
+	}
+}
+
+// changes gives the units that are to be left out, in the calls' order.
+func (x *Client) changes() []int {
+	var units []int
+	for _, c := range x.calls() {
+		if c.kind == changing {
+			units = append(units, c.unit)
+		}
+	}
+	return units
+}
+
+func (x *Client) hasChanges() bool {
+	return len(x.changes()) > 0
+}
