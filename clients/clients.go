@@ -95,13 +95,14 @@ func (x *Client) Change(unit int) (int, api.Errno) {
 	if _, e := layouts.Chain(x.config, unit); e != api.OK {
 		return 0, api.ErrUnit
 	}
+	others := x.hasChanges()
 	c, e := x.begin(changing)
 	if e != api.OK {
 		return 0, e
 	}
 	c.unit = unit
 	x.settle(c)
-	if x.hasChanges() && !x.move.underWay() {
+	if !others && x.hasChanges() {
 		x.startMove()
 	}
 	return c.number, api.OK
@@ -146,7 +147,7 @@ func (x *Client) Result(n int) (api.Result, api.Errno) {
 
 // Tick has everything asked again that was not answered.
 func (x *Client) Tick() {
-	x.waiting.tick(x.move)
+	x.waiting.longer = x.waiting.begun
 	x.told, x.move = 0, move{}
 	for _, c := range x.pending {
 		c.question.due = true

@@ -1,40 +1,28 @@
 package clients
 
 import (
-	"maps"
-	"slices"
-
 	"furrow/api"
 	"furrow/layouts"
 	"furrow/packets"
 )
 
-// move is the way to a later layout. It asks one question at a time: it has
-// voters tell what they have voted for; if nothing has been chosen yet, it has
-// units sealed, and voters promise, and vote.
+// move is the way to a later layout. It has voters tell what they have voted for;
+// if nothing is known to be chosen, it has units sealed, and voters promise, and
+// vote.
 type move struct {
-	epoch  int  // the one whose layout is looked for
-	chosen bool // there is one: a unit is at an epoch that comes behind it
+	epoch  int              // the one whose layout is looked for
+	chosen bool             // there is one: a unit is at an epoch that comes behind it
+	begun  map[int]api.Vote // what voters have told before they were to promise
 	ballot int
 	value  []byte // the layout to vote for
 	seals  question[api.Reply]
 	votes  question[api.Vote]
 }
 
-func (m *move) underWay() bool {
-	return m.seals.asks() || m.votes.asks()
-}
-
 // waiting is why the next move may go further than the last one.
 type waiting struct {
-	begun    bool // a new layout was begun, and not chosen yet
-	longer   bool // that was so ahead of the last Tick already
-	unsealed bool // a change could not go on for want of units
-}
-
-func (w *waiting) tick(m move) {
-	w.longer = w.begun
-	w.unsealed = w.unsealed || m.seals.asks()
+	begun  bool // a new layout was begun, and not chosen yet
+	longer bool // that was so ahead of the last Tick already
 }
 
 // behind: a unit is at a later epoch. Of that one there need not be a layout,
@@ -44,7 +32,7 @@ func (x *Client) behind(epoch int) {
 		return
 	}
 	x.told = epoch
-	if !x.move.underWay() || epoch > x.move.epoch {
+	if epoch > x.move.epoch {
 		x.startMove()
 	}
 }
@@ -70,7 +58,6 @@ func (x *Client) askVoters(q packets.Request) {
 	for i := range x.config.Voters {
 		voters = append(voters, api.FirstVoter+i)
 	}
-	x.move.seals = question[api.Reply]{}
 	x.move.votes = newQuestion[api.Vote](voters, q)
 }
 
@@ -116,10 +103,37 @@ func (x *Client) recalled() {
 // might be kept from being chosen by those that it keeps waiting.
 func (x *Client) undecided() {
 	x.waiting.begun = true
-	x.move.ballot = x.nextBallot(promised(x.move.votes.answers))
-	x.move.votes = question[api.Vote]{}
-	if x.hasChanges() || x.waiting.longer {
+	if !x.hasChanges() && !x.waiting.longer {
+		return
+	}
+	x.move.begun = x.move.votes.answers
+	if !x.move.seals.asks() {
 		x.seal()
+	}
+	x.prepare()
+}
+
+func (x *Client) seal() {
+	q := packets.Request{Kind: packets.Seal, Number: x.number(), Epoch: x.move.epoch}
+	x.move.seals = newQuestion[api.Reply](layouts.All(x.layout), q)
+}
+
+// sealed: a unit more is sealed, with which the move may go on.
+func (x *Client) sealed(api.Reply) {
+	switch x.move.votes.request.Kind {
+	case packets.Recall:
+		x.prepare()
+	case packets.Prepare:
+		x.prepared()
+	}
+}
+
+// prepare has voters promise, when there is something to vote for. Who has
+// nothing would only keep others from it.
+func (x *Client) prepare() {
+	if _, ok := x.proposal(); ok {
+		x.move.ballot = x.nextBallot(promised(x.move.begun))
+		x.askVoters(packets.Request{Kind: packets.Prepare, Place: x.move.ballot})
 	}
 }
 
@@ -131,49 +145,18 @@ func (x *Client) nextBallot(promised int) int {
 	return x.ballot
 }
 
-func (x *Client) seal() {
-	q := packets.Request{Kind: packets.Seal, Number: x.number(), Epoch: x.move.epoch}
-	x.move.seals = newQuestion[api.Reply](layouts.All(x.layout), q)
-}
-
-// sealed: a unit more is sealed. As soon as there is one in each chain, nobody can
-// end a read or a trim with the old layout any more who begins it from now on, nor
-// write what the units of the new one don't have.
-func (x *Client) sealed(api.Reply) {
-	if next, ok := x.next(slices.Collect(maps.Keys(x.move.seals.answers))); ok {
-		x.move.value = layouts.Bytes(next)
-		x.askVoters(packets.Request{Kind: packets.Prepare, Place: x.move.ballot})
-	}
-}
-
-// next gives the layout to vote for, if the units that are sealed are enough. The
-// first change comes first; the others only if that one lacks units, which may be
-// the ones that the others leave out.
-func (x *Client) next(sealed []int) ([][]int, bool) {
-	outs := x.changes()
-	if len(outs) == 0 {
-		outs = []int{layouts.None}
-	}
-	if !x.waiting.unsealed {
-		outs = outs[:1]
-	}
-	for _, out := range outs {
-		if next, e := layouts.Next(x.layout, out, sealed); e == api.OK {
-			return next, true
-		}
-	}
-	return nil, false
-}
-
 // prepared: if something was voted for, it may have been chosen, and nothing else
-// may be voted for any more.
+// may be voted for any more. Any majority will do to tell, and one may be there
+// that knows nothing of a layout with which nothing could be done.
 func (x *Client) prepared() {
-	answers := x.move.votes.answers
-	if len(done(answers)) < x.majority() {
+	answers := done(x.move.votes.answers)
+	vote := highest(x.living(answers))
+	if len(until(vote.Ballot, answers)) < x.majority() {
 		return
 	}
-	if vote := highest(done(answers)); vote.Ballot > 0 {
-		x.move.value = vote.Value
+	x.move.value = vote.Value
+	if vote.Ballot == 0 {
+		x.move.value, _ = x.proposal()
 	}
 	content := api.Content{Value: x.move.value}
 	x.askVoters(packets.Request{Kind: packets.Accept, Place: x.move.ballot, Content: content})
@@ -210,19 +193,4 @@ func (x *Client) over(c *call) {
 	case !c.wants():
 		x.do(c)
 	}
-}
-
-// changes gives the units that are to be left out, in the calls' order.
-func (x *Client) changes() []int {
-	var units []int
-	for _, c := range x.calls() {
-		if c.kind == changing {
-			units = append(units, c.unit)
-		}
-	}
-	return units
-}
-
-func (x *Client) hasChanges() bool {
-	return len(x.changes()) > 0
 }

@@ -48,3 +48,10 @@ func done(votes map[int]api.Vote) map[int]api.Vote {
 	maps.DeleteFunc(did, func(_ int, v api.Vote) bool { return v.What != api.Done })
 	return did
 }
+
+// until gives the votes of ballots that are not above this one.
+func until(ballot int, votes map[int]api.Vote) map[int]api.Vote {
+	left := maps.Clone(votes)
+	maps.DeleteFunc(left, func(_ int, v api.Vote) bool { return v.Ballot > ballot })
+	return left
+}

@@ -46,6 +46,16 @@ func TestHighestAndPromised(t *testing.T) {
 	}
 }
 
+func TestUntilKeepsThoseThatAreNotAbove(t *testing.T) {
+	for ballot, want := range map[int]int{0: 1, 2: 1, 3: 2, 4: 3, 8: 3, 9: 5, 10: 5} {
+		votes := ballots(3, 9, 0, 9, 4)
+		left := until(ballot, votes)
+		if len(left) != want || len(votes) != 5 {
+			t.Errorf("until %d: %v are left of %v, want %d", ballot, left, votes, want)
+		}
+	}
+}
+
 // In whatever order the votes are gone through, one comes out.
 func TestHighestOfEqualBallots(t *testing.T) {
 	votes := map[int]api.Vote{}

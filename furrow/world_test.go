@@ -37,6 +37,8 @@ type world struct {
 	now     int
 	had     map[int]bool // the tokens that some append had
 	mixed   bool         // in a step, letters are handed in in any order
+	rank    map[int]int  // in each step, whose letters are handed in first
+	chosen  *chosen      // what voters have voted for, if somebody wants to know
 }
 
 func newWorld(t *testing.T, c api.Config, clients int, seed int64) *world {
@@ -163,6 +165,9 @@ func (w *world) gather(id int) int {
 	if n, found := w.nodes[id]; found {
 		out = n.Out()
 		w.sure[id] = len(n.Image())
+		if w.chosen != nil && id >= api.FirstVoter {
+			w.watch(id)
+		}
 	} else {
 		out = w.clients[id].Out()
 	}
@@ -216,6 +221,9 @@ func (w *world) step(passes func(letter) bool) int {
 	w.letters = nil
 	if w.mixed {
 		w.r.Shuffle(len(letters), func(i, j int) { letters[i], letters[j] = letters[j], letters[i] })
+	}
+	if w.rank != nil {
+		slices.SortStableFunc(letters, func(a, b letter) int { return w.rank[a.from] - w.rank[b.from] })
 	}
 	for _, l := range letters {
 		if passes == nil || passes(l) {
