@@ -9,9 +9,10 @@ import (
 )
 
 // proposal gives what to vote for, if it is free; false, as long as there is
-// nothing. What others have begun comes first, and wants no unit sealed: those who
-// began it have seen to that. It may have been chosen; then the units that it
-// leaves out may be gone, and the client's own layout would wait for them for ever.
+// nothing. What others have begun comes first: it may have been chosen, and then
+// the units that it leaves out may be gone, for which the client's own layout would
+// wait for ever. Those who began it have had units sealed for it; here it is enough
+// that its own units are there.
 func (x *Client) proposal() ([]byte, bool) {
 	if vote := highest(x.living(x.move.begun)); vote.Ballot > 0 {
 		return vote.Value, true
