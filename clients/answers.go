@@ -10,8 +10,8 @@ func (x *Client) Receive(from int, data []byte) {
 	if number, reply, ok := packets.ReadReply(data); ok {
 		x.replied(from, number, reply)
 	}
-	if number, vote, ok := packets.ReadVote(data); ok {
-		x.voted(from, number, vote)
+	if number, latest, vote, ok := packets.ReadVote(data); ok {
+		x.voted(from, number, latest, vote)
 	}
 }
 

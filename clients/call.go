@@ -21,6 +21,7 @@ const (
 // none, it is done by the client's move.
 type call struct {
 	kind, number int
+	line         int // on which it asks
 	address      int
 	unit         int         // of a change
 	own          api.Content // what the call itself would write
@@ -44,10 +45,19 @@ func (x *Client) begin(kind int) (*call, api.Errno) {
 		return nil, api.ErrCall
 	}
 	n := len(x.results)
-	c := &call{kind: kind, number: n, own: api.Content{Client: x.id, Call: n}}
+	c := &call{kind: kind, number: n, line: x.freeLine(), own: api.Content{Client: x.id, Call: n}}
 	x.results = append(x.results, api.Result{})
 	x.pending[n] = c
 	return c, api.OK
+}
+
+// freeLine gives a line that no pending call has.
+func (x *Client) freeLine() int {
+	var taken [api.MaxCalls]bool
+	for _, c := range x.pending {
+		taken[c.line] = true
+	}
+	return slices.Index(taken[:], false)
 }
 
 func (x *Client) end(c *call, r api.Result) {
@@ -82,7 +92,7 @@ func (x *Client) settle(c *call) {
 }
 
 func (x *Client) ask(c *call, units []int, q packets.Request) {
-	q.Number, q.Epoch = x.number(), x.epoch
+	q.Line, q.Number, q.Epoch = c.line, x.number(), x.epoch
 	c.question = newQuestion[api.Reply](units, q)
 }
 

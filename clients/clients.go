@@ -20,7 +20,7 @@ type Client struct {
 	pending map[int]*call
 	asked   int                 // how many questions there were: so each one has a number of its own
 	probe   question[api.Reply] // whether units are at a later epoch
-	told    int                 // the latest epoch of which units have told since the last Tick
+	told    int                 // the latest epoch of which nodes have told since the last Tick
 	ballot  int                 // the last one that was taken
 	move    move
 	waiting waiting

@@ -11,7 +11,7 @@ import (
 // vote.
 type move struct {
 	epoch  int              // the one whose layout is looked for
-	chosen bool             // there is one: a unit is at an epoch that comes behind it
+	chosen bool             // there is one: a node is at an epoch that comes behind it
 	begun  map[int]api.Vote // what voters have told before they were to promise
 	ballot int
 	value  []byte // the layout to vote for
@@ -25,8 +25,9 @@ type waiting struct {
 	longer bool // that was so ahead of the last Tick already
 }
 
-// behind: a unit is at a later epoch. Of that one there need not be a layout,
-// but of the one ahead of it there is.
+// behind: a node is at a later epoch. Of that one there need not be a layout,
+// but of the one ahead of it there is: who has units sealed and voters promise for
+// an epoch has the layout ahead of it.
 func (x *Client) behind(epoch int) {
 	if epoch <= x.epoch || epoch <= x.told {
 		return
@@ -40,7 +41,7 @@ func (x *Client) behind(epoch int) {
 // startProbe asks all units whether they are at a later epoch. Those that a call
 // waits for may have been left out, and be gone.
 func (x *Client) startProbe() {
-	q := packets.Request{Kind: packets.Seal, Number: x.number(), Epoch: x.epoch}
+	q := packets.Request{Kind: packets.Seal, Line: packets.ProbeLine, Number: x.number(), Epoch: x.epoch}
 	x.probe = newQuestion[api.Reply](layouts.All(x.layout), q)
 }
 
@@ -53,7 +54,7 @@ func (x *Client) startMove() {
 }
 
 func (x *Client) askVoters(q packets.Request) {
-	q.Number, q.Epoch = x.number(), x.move.epoch
+	q.Line, q.Number, q.Epoch = packets.MoveLine, x.number(), x.move.epoch
 	var voters []int
 	for i := range x.config.Voters {
 		voters = append(voters, api.FirstVoter+i)
@@ -61,9 +62,13 @@ func (x *Client) askVoters(q packets.Request) {
 	x.move.votes = newQuestion[api.Vote](voters, q)
 }
 
-// voted takes the answer of a voter.
-func (x *Client) voted(from, number int, vote api.Vote) {
+// voted takes the answer of a voter. If that knows of a later epoch, the move may
+// begin anew, and then the answer is awaited no more.
+func (x *Client) voted(from, number, latest int, vote api.Vote) {
 	q := &x.move.votes
+	if q.awaits(number, from) {
+		x.behind(latest)
+	}
 	if !q.awaits(number, from) {
 		return
 	}
@@ -114,7 +119,7 @@ func (x *Client) undecided() {
 }
 
 func (x *Client) seal() {
-	q := packets.Request{Kind: packets.Seal, Number: x.number(), Epoch: x.move.epoch}
+	q := packets.Request{Kind: packets.Seal, Line: packets.MoveLine, Number: x.number(), Epoch: x.move.epoch}
 	x.move.seals = newQuestion[api.Reply](layouts.All(x.layout), q)
 }
 

@@ -139,7 +139,7 @@ func TestP8ImagesGrowOnly(t *testing.T) {
 // no gives bytes that are no packets, made from one that is: cut short, with
 // bytes behind it, and others.
 func no(packet []byte) [][]byte {
-	all := [][]byte{nil, {}, {0}, {1, 2, 3}, {1, 6, 0}, {0, 0, 0, 0}, bytes.Repeat([]byte{255}, 1000), make([]byte, 51)}
+	all := [][]byte{nil, {}, {0}, {1, 2, 3}, {1, 7, 0}, {0, 0, 0, 0}, bytes.Repeat([]byte{255}, 1000), make([]byte, 59)}
 	for size := range packet {
 		all = append(all, packet[:size])
 	}
@@ -164,18 +164,26 @@ func TestP8WhatIsNoPacketDoesNothing(t *testing.T) {
 }
 
 func TestP8PacketsAreNotGivenAgain(t *testing.T) {
-	w, sent := traffic(t, 3)
-	n := openNode(t, w.c, sent[0].p.To, nil)
-	for range 450 {
-		n.Receive(sent[0].from, sent[0].p.Data)
+	c := config(1, 1, 1, 5)
+	n := openNode(t, c, 0, nil)
+	x := newClient(t, c, 1000)
+	for address := range 5 {
+		x.Read(address)
 	}
+	for _, p := range x.Out() {
+		for i := range 90 {
+			n.Receive(1000+i, p.Data)
+		}
+	}
+	given := map[int]int{}
 	for _, want := range []int{200, 200, 50, 0, 0} {
 		out := n.Out()
 		if len(out) != want {
 			t.Errorf("%d packets come out, want %d", len(out), want)
 		}
 		for _, p := range out {
-			if p.To != sent[0].from || len(p.Data) < 4 {
+			given[p.To]++
+			if p.To < 1000 || p.To > 1089 || given[p.To] > 5 || len(p.Data) < 4 {
 				t.Fatalf("%v comes out", p)
 			}
 		}

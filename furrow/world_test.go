@@ -9,12 +9,18 @@ import (
 
 	"furrow/api"
 	"furrow/furrow"
+	"furrow/packets"
 )
 
 // letter is a packet on its way.
 type letter struct {
 	from int
 	p    api.Packet
+}
+
+// line is one on which a client asks a node.
+type line struct {
+	client, node, line int
 }
 
 // made is a call that a client of the world has begun.
@@ -39,11 +45,12 @@ type world struct {
 	mixed   bool         // in a step, letters are handed in in any order
 	rank    map[int]int  // in each step, whose letters are handed in first
 	chosen  *chosen      // what voters have voted for, if somebody wants to know
+	asked   map[line]int // the number of what was asked last
 }
 
 func newWorld(t *testing.T, c api.Config, clients int, seed int64) *world {
 	t.Helper()
-	w := &world{t: t, c: c, r: rand.New(rand.NewSource(seed)), nodes: map[int]*furrow.Node{}, sure: map[int]int{}, clients: map[int]*furrow.Client{}, had: map[int]bool{}}
+	w := &world{t: t, c: c, r: rand.New(rand.NewSource(seed)), nodes: map[int]*furrow.Node{}, sure: map[int]int{}, clients: map[int]*furrow.Client{}, had: map[int]bool{}, asked: map[line]int{}}
 	for id := range c.Chains * c.Units {
 		w.ids = append(w.ids, id)
 	}
@@ -170,6 +177,7 @@ func (w *world) gather(id int) int {
 		}
 	} else {
 		out = w.clients[id].Out()
+		w.askedInOrder(id, out)
 	}
 	if len(out) > api.MaxOut {
 		w.t.Errorf("%d gives out %d packets", id, len(out))
@@ -178,6 +186,22 @@ func (w *world) gather(id int) int {
 		w.letters = append(w.letters, letter{id, p})
 	}
 	return len(out)
+}
+
+// askedInOrder: a client goes back to nothing that it has asked before: else nodes
+// could not tell which answers it awaits no more. On each line it asks at most one
+// thing at a time.
+func (w *world) askedInOrder(id int, out []api.Packet) {
+	w.t.Helper()
+	now := map[line]bool{}
+	for _, p := range out {
+		q, ok := packets.ReadRequest(p.Data)
+		at := line{id, p.To, q.Line}
+		if !ok || q.Number < w.asked[at] || now[at] {
+			w.t.Fatalf("client %d asks %+v of %d, behind %d", id, q, p.To, w.asked[at])
+		}
+		w.asked[at], now[at] = q.Number, true
+	}
 }
 
 // all gives everybody who is there, in a rising order.

@@ -2,8 +2,6 @@
 package nodes
 
 import (
-	"slices"
-
 	"furrow/api"
 	"furrow/layouts"
 	"furrow/packets"
@@ -13,7 +11,7 @@ import (
 // its image: to whoever asked, they are lost packets.
 type Node struct {
 	part part
-	out  []api.Packet
+	out  queue
 }
 
 // part is what a node is: a unit or a voter.
@@ -36,7 +34,7 @@ func Open(c api.Config, id int, image []byte) (*Node, api.Errno) {
 	if e != api.OK {
 		return nil, e
 	}
-	return &Node{part: p}, api.OK
+	return &Node{part: p, out: newQueue()}, api.OK
 }
 
 // Receive takes a packet. Only clients ask; an answer has nowhere else to go.
@@ -45,17 +43,14 @@ func (n *Node) Receive(from int, data []byte) {
 	if !ok || from < api.FirstClient || from > api.LastClient {
 		return
 	}
-	if answer, ok := n.part.answer(q); ok {
-		n.out = append(n.out, api.Packet{To: from, Data: answer})
+	if data, ok := n.part.answer(q); ok {
+		n.out.add(asker{from, q.Line}, answer{q.Number, data})
 	}
 }
 
 // Out gives the packets that are to go out.
 func (n *Node) Out() []api.Packet {
-	most := min(len(n.out), api.MaxOut)
-	given := slices.Clone(n.out[:most])
-	n.out = slices.Delete(n.out, 0, most)
-	return given
+	return n.out.take(api.MaxOut)
 }
 
 // Image gives all that was kept, as bytes.

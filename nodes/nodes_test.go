@@ -31,7 +31,7 @@ func requests(r *rand.Rand, count int) []packets.Request {
 	kinds := []int{packets.Seal, packets.Write, packets.Read, packets.Trim, packets.Prepare, packets.Accept, packets.Recall}
 	var all []packets.Request
 	for i := range count {
-		q := packets.Request{Kind: kinds[r.Intn(len(kinds))], Number: i * 3, Epoch: r.Intn(3) + i/30, Place: r.Intn(9) - 1}
+		q := packets.Request{Kind: kinds[r.Intn(len(kinds))], Line: r.Intn(packets.Lines), Number: i * 3, Epoch: r.Intn(3) + i/30, Place: r.Intn(9) - 1}
 		if q.Kind == packets.Write || q.Kind == packets.Accept {
 			q.Content = api.Content{Kind: api.Data, Client: r.Intn(5), Call: r.Intn(5), Value: make([]byte, r.Intn(4))}
 			r.Read(q.Content.Value)
@@ -108,7 +108,7 @@ func TestP8VotersAnswerAsVoters(t *testing.T) {
 			if asked != (len(out) == 1) || len(out) > 1 {
 				t.Fatalf("voter %d: to %+v there are %d answers", id, q, len(out))
 			}
-			if asked && (out[0].To != client || !bytes.Equal(out[0].Data, packets.VoteBytes(q.Number, want))) {
+			if asked && (out[0].To != client || !bytes.Equal(out[0].Data, packets.VoteBytes(q.Number, v.Latest(), want))) {
 				t.Errorf("voter %d: to %+v it answers %+v, want %+v", id, q, out[0], want)
 			}
 			if !bytes.Equal(n.Image(), v.Image()) {
@@ -194,8 +194,8 @@ func TestP8AtMostMaxOutAtATime(t *testing.T) {
 	for _, id := range []int{3, 102} {
 		n := open(t, id, nil)
 		for i := range 2*api.MaxOut + 50 {
-			n.Receive(api.FirstClient+i%100, packets.Request{Kind: packets.Seal, Number: i}.Bytes())
-			n.Receive(api.FirstClient+i%100, packets.Request{Kind: packets.Prepare, Number: i}.Bytes())
+			n.Receive(api.FirstClient+i%100, packets.Request{Kind: packets.Seal, Line: i / 100, Number: i}.Bytes())
+			n.Receive(api.FirstClient+i%100, packets.Request{Kind: packets.Prepare, Line: i / 100, Number: i}.Bytes())
 		}
 		var all []api.Packet
 		for _, want := range []int{api.MaxOut, api.MaxOut, 50, 0} {
@@ -208,7 +208,7 @@ func TestP8AtMostMaxOutAtATime(t *testing.T) {
 		for i, p := range all {
 			number, _, ok := packets.ReadReply(p.Data)
 			if id == 102 {
-				number, _, ok = packets.ReadVote(p.Data)
+				number, _, _, ok = packets.ReadVote(p.Data)
 			}
 			if !ok || number != i || p.To != api.FirstClient+i%100 {
 				t.Fatalf("node %d: packet %d is %v", id, i, p)
@@ -221,14 +221,14 @@ func TestP8AtMostMaxOutAtATime(t *testing.T) {
 func TestP2PacketsAreTheCallers(t *testing.T) {
 	n, m := open(t, 0, nil), open(t, 0, nil)
 	for i := range 3 * api.MaxOut {
-		data := packets.Request{Kind: packets.Write, Number: i, Place: 0, Content: api.Content{Kind: api.Data, Call: i, Value: []byte("abc")}}.Bytes()
-		m.Receive(client, bytes.Clone(data))
-		n.Receive(client, data)
+		data := packets.Request{Kind: packets.Write, Line: i / 100, Number: i, Place: 0, Content: api.Content{Kind: api.Data, Call: i, Value: []byte("abc")}}.Bytes()
+		m.Receive(api.FirstClient+i%100, bytes.Clone(data))
+		n.Receive(api.FirstClient+i%100, data)
 		clear(data)
 	}
 	for range 3 {
 		got, want := n.Out(), m.Out()
-		if !reflect.DeepEqual(got, want) {
+		if len(got) != api.MaxOut || !reflect.DeepEqual(got, want) {
 			t.Fatal("what was written into a list has come out again")
 		}
 		for i := range got {

@@ -63,7 +63,8 @@ func (v voter) answer(q packets.Request) ([]byte, bool) {
 	if !found {
 		return nil, false
 	}
-	return packets.VoteBytes(q.Number, do(v, q)), true
+	vote := do(v, q)
+	return packets.VoteBytes(q.Number, v.Latest(), vote), true
 }
 
 func (v voter) prepare(q packets.Request) api.Vote {

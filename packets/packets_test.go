@@ -14,7 +14,7 @@ var kinds = []int{packets.Seal, packets.Write, packets.Read, packets.Trim, packe
 
 func request(kind int, value string) packets.Request {
 	content := api.Content{Kind: api.Data, Client: math.MinInt, Call: math.MaxInt, Value: []byte(value)}
-	return packets.Request{Kind: kind, Number: 1 << 40, Epoch: -1, Place: math.MaxInt, Content: content}
+	return packets.Request{Kind: kind, Line: packets.MoveLine, Number: 1 << 40, Epoch: -1, Place: math.MaxInt, Content: content}
 }
 
 func TestRequestsComeBackAsTheyWere(t *testing.T) {
@@ -36,8 +36,8 @@ func TestAnswersComeBackAsTheyWere(t *testing.T) {
 		t.Errorf("%+v has become %d, %+v, %v", reply, number, got, ok)
 	}
 	vote := api.Vote{What: api.Refused, Promise: math.MaxInt, Ballot: math.MinInt, Value: bytes.Repeat([]byte{7}, 255)}
-	if number, got, ok := packets.ReadVote(packets.VoteBytes(1<<50, vote)); !ok || number != 1<<50 || !reflect.DeepEqual(got, vote) {
-		t.Errorf("%+v has become %d, %+v, %v", vote, number, got, ok)
+	if number, latest, got, ok := packets.ReadVote(packets.VoteBytes(1<<50, 1<<45, vote)); !ok || number != 1<<50 || latest != 1<<45 || !reflect.DeepEqual(got, vote) {
+		t.Errorf("%+v has become %d, %d, %+v, %v", vote, number, latest, got, ok)
 	}
 }
 
@@ -45,12 +45,12 @@ func TestAnswersComeBackAsTheyWere(t *testing.T) {
 func taken(data []byte) [3]bool {
 	_, request := packets.ReadRequest(data)
 	_, _, reply := packets.ReadReply(data)
-	_, _, vote := packets.ReadVote(data)
+	_, _, _, vote := packets.ReadVote(data)
 	return [3]bool{request, reply, vote}
 }
 
 func TestWhatIsNoPacketIsNotTaken(t *testing.T) {
-	whole := [][]byte{packets.ReplyBytes(1, api.Reply{}), packets.VoteBytes(1, api.Vote{})}
+	whole := [][]byte{packets.ReplyBytes(1, api.Reply{}), packets.VoteBytes(1, 0, api.Vote{})}
 	for _, kind := range kinds {
 		whole = append(whole, request(kind, "").Bytes())
 	}
@@ -75,6 +75,17 @@ func TestWhatIsNoPacketIsNotTaken(t *testing.T) {
 	}
 }
 
+func TestALineThatIsNoneMakesItNoRequest(t *testing.T) {
+	for line, want := range map[int]bool{math.MinInt: false, -1: false, 0: true, api.MaxCalls: true, packets.Lines - 1: true, packets.Lines: false, math.MaxInt: false} {
+		for _, kind := range kinds {
+			q := packets.Request{Kind: kind, Line: line}
+			if _, ok := packets.ReadRequest(q.Bytes()); ok != want {
+				t.Errorf("%+v: taken %v", q, ok)
+			}
+		}
+	}
+}
+
 func TestEachReaderTakesItsOwnPackets(t *testing.T) {
 	for _, kind := range kinds {
 		if got := taken(request(kind, "").Bytes()); got != [3]bool{true, false, false} {
@@ -84,7 +95,7 @@ func TestEachReaderTakesItsOwnPackets(t *testing.T) {
 	if got := taken(packets.ReplyBytes(1, api.Reply{})); got != [3]bool{false, true, false} {
 		t.Errorf("a reply is taken by %v", got)
 	}
-	if got := taken(packets.VoteBytes(1, api.Vote{})); got != [3]bool{false, false, true} {
+	if got := taken(packets.VoteBytes(1, 0, api.Vote{})); got != [3]bool{false, false, true} {
 		t.Errorf("a vote is taken by %v", got)
 	}
 }
@@ -95,7 +106,7 @@ func TestNoPacketIsShort(t *testing.T) {
 			t.Errorf("a request of the kind %d has %d bytes", kind, n)
 		}
 	}
-	if len(packets.ReplyBytes(0, api.Reply{})) < 4 || len(packets.VoteBytes(0, api.Vote{})) < 4 {
+	if len(packets.ReplyBytes(0, api.Reply{})) < 4 || len(packets.VoteBytes(0, 0, api.Vote{})) < 4 {
 		t.Error("an answer has fewer than four bytes")
 	}
 }

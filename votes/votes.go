@@ -92,6 +92,16 @@ func (v *Voter) Recall(epoch int) api.Vote {
 	return api.Vote{What: api.Done, Promise: state.promise, Ballot: state.ballot, Value: bytes.Clone(state.value)}
 }
 
+// Latest tells the latest epoch of which something was promised; 0, if there is
+// none.
+func (v *Voter) Latest() int {
+	latest := 0
+	for epoch := range v.epochs {
+		latest = max(latest, epoch)
+	}
+	return latest
+}
+
 // Image gives all that was kept, as bytes.
 func (v *Voter) Image() []byte {
 	return v.image.Bytes()

@@ -9,6 +9,32 @@ import (
 	"furrow/votes"
 )
 
+func TestLatestIsTheLastEpochOfWhichSomethingWasPromised(t *testing.T) {
+	v, _ := votes.Open(nil)
+	latest := func(want int) {
+		t.Helper()
+		opened, _ := votes.Open(v.Image())
+		if v.Latest() != want || opened.Latest() != want {
+			t.Errorf("the latest epoch is %d, opened again %d, want %d", v.Latest(), opened.Latest(), want)
+		}
+	}
+	latest(0)
+	v.Recall(9)
+	v.Prepare(9, 0)
+	v.Accept(9, 1, nil)
+	v.Prepare(0, 1)
+	latest(0)
+	v.Prepare(3, 7)
+	latest(3)
+	v.Accept(2, 7, []byte("x"))
+	v.Prepare(4, -1)
+	latest(3)
+	v.Accept(5, 1, []byte("x"))
+	latest(5)
+	v.Prepare(math.MaxInt, 1)
+	latest(math.MaxInt)
+}
+
 func TestRecallTellsAndChangesNothing(t *testing.T) {
 	v, _ := votes.Open(nil)
 	recalls := func(epoch int, want api.Vote) {
